@@ -1,0 +1,1 @@
+"""Hatsight: guessing one's own hat."""
