@@ -10,7 +10,11 @@ TOP = os.path.dirname(os.path.dirname(os.path.abspath(__file__)))
 SCRIPT = """
 import itertools
 from hatsight.circles import circle_guess
+from hatsight.groups import best_groups, group_fault, made_sure
 from hatsight.lines import read_book, shown_book
+from hatsight.rings import ring_guess
+from hatsight.rows import row_guess
+from hatsight.tables import code, fewest, foe, plan_of, rights, told
 from hatsight.webs import sight_order, sight_ring
 masks = [[m for m in range(16) if not m & (1 << i)] for i in range(4)]
 webs = list(itertools.product(*masks))
@@ -21,6 +25,15 @@ print([read_book(shown_book((names, (2, 3, 4, 5), web))) for web in webs])
 for counts in ((2, 3, 4), (3, 3, 3), (5, 2, 10 ** 29)):
     for hats in itertools.product(range(2), repeat=3):
         print([circle_guess(counts, hats, i) for i in range(3)])
+print([ring_guess(many, i, seen) for many in (2, 3, 60) for i in range(many) for seen in (0, 1)])
+print([row_guess((5, 4, 3), i, (1, 2)[:i], (3, 2)[i:]) for i in range(3)])
+for web in webs[::7]:
+    for counts in ((2, 2, 2, 2), (2, 3, 2, 1)):
+        groups = best_groups(counts, web)
+        plan = plan_of(counts, web, groups)
+        print(groups, group_fault(counts, web, groups), made_sure(counts, groups), plan)
+        print(code(counts, web, (1, 1, 0, 0), 2), told(counts, web, plan, (1, 1, 0, 0)))
+        print(rights(counts, web, plan), fewest(counts, web, plan), foe(counts, web, plan))
 """
 
 
