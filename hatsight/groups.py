@@ -58,8 +58,9 @@ def sights_from(web, people):
     return tuple([mask if i in people else 0 for i, mask in enumerate(web)])
 
 
-# The one group that makes most sure among some people, or none. A circle is never less
-# than a ring among its people, as two of them who have the count 2 make one sure.
+# One group for a crowd: all of it as a circle, else a ring among it; its smaller circles
+# are found with smaller crowds. A circle is worth no less than a ring among its people, as
+# two of them who have the count 2 make one sure.
 def lone_group(counts, web, crowd):
     people = tuple(places(crowd))
     if is_circle(web, people):
