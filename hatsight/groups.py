@@ -88,11 +88,15 @@ def parts_of(crowd):
 
 
 # The first one of a crowd is in no group, or in one with some part of the others: so the
-# best of a crowd is found from the best of smaller ones.
+# best of a crowd is found from the best of smaller ones. One group for the whole crowd
+# stays where others make no more sure: so people who all see one another are one circle,
+# and no more of them are right than their share, rounded up.
 def best_choice(lone, best, crowd):
     first = crowd & -crowd
     others = crowd - first
-    found = best[others]
+    found = lone[crowd]
+    if best[others][0] > found[0]:
+        found = best[others]
     for part in parts_of(others):
         group = lone[first + part]
         rest = best[others - part]

@@ -34,6 +34,13 @@ WORDS = re.compile(r"\b(type|typing|typing_extensions|enum|Enum|IntEnum|StrEnum|
                    r"ABCMeta|namedtuple|NamedTuple|TypedDict|TYPE_CHECKING|abstractmethod)\b|"
                    r"dataclass|overload|contextmanager")
 
+# Names that no value of an object has.
+NO_VALUES = set("""items keys values pop update append clear extend insert remove reverse setdefault sort args encode
+format""".split())
+
+WALKED = ("zip", "enumerate", "reversed", "range")
+WALKERS = ("list", "tuple", "dict", "sorted", "sum", "any", "all", "enumerate", "zip", "min", "max", "join")
+
 NOWHERE = set("""register mro elements open input version_info with_traceback add_note format format_map""".split())
 
 
@@ -179,6 +186,54 @@ def expression_faults(node, is_main, own_methods):
             yield f"L25 line {node.lineno}: {node.func.attr}"
 
 
+def called(node):
+    if isinstance(node, ast.Call):
+        return node.func.id if isinstance(node.func, ast.Name) else getattr(node.func, "attr", None)
+    return None
+
+
+def parents_of(tree):
+    return {child: node for node in ast.walk(tree) for child in ast.iter_child_nodes(node)}
+
+
+# What is walked stands behind the `in` of a walk or straight within one of Python's own walkers.
+def walk_faults(tree):
+    parents = parents_of(tree)
+    for node in ast.walk(tree):
+        above = parents.get(node)
+        if called(node) in WALKED and isinstance(node.func, ast.Name):
+            behind_in = isinstance(above, (ast.For, ast.comprehension)) and above.iter is node
+            if not behind_in and not (called(above) in WALKERS and node in above.args):
+                yield f"L23 line {node.lineno}"
+        if called(node) in ("set", "frozenset") or isinstance(node, ast.Set):
+            if called(above) not in ("len", "sorted") and not isinstance(above, (ast.Compare, ast.BinOp)):
+                yield f"L24 line {node.lineno}"
+
+
+def bound_within(node):
+    given = [told.arg for told in node.args.args]
+    return given + [part.id for part in ast.walk(node) if isinstance(part, ast.Name) and isinstance(part.ctx, ast.Store)]
+
+
+def scope_faults(tree):
+    drawn = {alias.name for node in tree.body if isinstance(node, ast.ImportFrom) for alias in node.names}
+    classes = {node.name for node in tree.body if isinstance(node, ast.ClassDef)}
+    for node in ast.walk(tree):
+        if isinstance(node, (ast.FunctionDef, ast.Lambda)):
+            for name in bound_within(node):
+                if name in drawn | classes:
+                    yield f"L15 line {node.lineno}: {name}"
+        if isinstance(node, ast.FunctionDef) and ast.get_docstring(node) is not None:
+            yield f"L6 line {node.lineno}: a text by itself"
+        if isinstance(node, (ast.arg, ast.FunctionDef)) and (getattr(node, "annotation", None) or getattr(node, "returns", None)):
+            yield f"L21 line {node.lineno}"
+
+
+def values_of(trees):
+    return {node.attr for tree in trees for node in ast.walk(tree)
+            if isinstance(node, ast.Attribute) and isinstance(node.ctx, ast.Store)}
+
+
 def methods_of(trees):
     return {part.name for tree in trees for node in ast.walk(tree) if isinstance(node, ast.ClassDef)
             for part in node.body if isinstance(part, ast.FunctionDef)}
@@ -187,6 +242,7 @@ def methods_of(trees):
 def faults(text, is_main=False, own_methods=frozenset()):
     tree = ast.parse(text)
     told = list(text_faults(text)) + list(top_faults(tree, is_main)) + list(import_faults(tree, is_main))
+    told = told + list(walk_faults(tree)) + list(scope_faults(tree))
     for node in ast.walk(tree):
         if isinstance(node, ast.stmt):
             told.extend(statement_faults(node))
@@ -225,6 +281,24 @@ class Language(unittest.TestCase):
             with self.subTest(name=name):
                 self.assertEqual(faults(text, name == "__main__.py", own_methods), [])
 
+    def test_methods_and_values_of_classes(self):
+        trees = [ast.parse(text) for text in read_package().values()]
+        self.assertIn("put_all", methods_of(trees))
+        self.assertIn("line", values_of(trees))
+        self.assertEqual(methods_of(trees) & values_of(trees), set())
+        self.assertEqual(values_of(trees) & NO_VALUES, set())
+
+    def test_each_name_is_drawn_from_the_file_that_has_it(self):
+        texts = read_package()
+        for name, text in texts.items():
+            for node in ast.parse(text).body:
+                if isinstance(node, ast.ImportFrom):
+                    there = ast.parse(texts[node.module.split(".")[1] + ".py"]).body
+                    defined = {part.name for part in there if isinstance(part, (ast.FunctionDef, ast.ClassDef))}
+                    for alias in node.names:
+                        self.assertIn(alias.name, defined, name)
+                        self.assertIsNone(alias.asname)
+
     def test_no_two_files_draw_from_one_another(self):
         drawn = {name: drawn_from(ast.parse(text)) for name, text in read_package().items()}
         self.assertEqual(drawn["__init__.py"], [])
@@ -246,7 +320,10 @@ class Checker(unittest.TestCase):
                            ("L14", "A = \"\u00e9\""), ("L15", "def f(id):\n    return 1"), ("L15", "A = 1\nA = 2"),
                            ("L17", "A = \"type\""), ("L20", "def f(x, y):\n    return x is y"),
                            ("L25", "def f(x):\n    return x.title()"), ("L27", "def f(n):\n    return 2 ** n"),
-                           ("L27", "A = \"50%\"")):
+                           ("L27", "A = \"50%\""), ("L23", "def f(n):\n    xs = range(n)\n    return xs"),
+                           ("L24", "def f(xs):\n    ys = set(xs)\n    return ys"),
+                           ("L15", "from hatsight.webs import places\n\n\ndef f(places):\n    return places"),
+                           ("L6", "def f():\n    \"\"\"A.\"\"\"\n    return 1"), ("L21", "def f(x: int):\n    return x")):
             with self.subTest(text=text):
                 self.assertTrue(any(fault.startswith(rule + " ") for fault in faults(text)), faults(text))
 
